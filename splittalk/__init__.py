@@ -1,0 +1,1 @@
+"""Splittalk: talks of two people in which both learn a result and nothing else."""
