@@ -14,11 +14,25 @@ FUNCTIONS = [
     ("splittalk.formula", "read_formula", "(text)"),
     ("splittalk.formula", "formula_text", "(formula)"),
     ("splittalk.formula", "formula_table", "(formula, rows, columns)"),
+    ("splittalk.parts", "row_groups", "(table, part)"),
+    ("splittalk.parts", "column_groups", "(table, part)"),
+    ("splittalk.parts", "pieces", "(table)"),
+    ("splittalk.parts", "is_barred", "(table, part)"),
+    ("splittalk.talk", "fits", "(table, talk)"),
+    ("splittalk.talk", "longest", "(talk)"),
+    ("splittalk.talk", "chances", "(talk, row, column)"),
+    ("splittalk.away", "open_at", "(table, talk)"),
+    ("splittalk.away", "gaps", "(table, talk)"),
+    ("splittalk.split", "settle", "(table)"),
+    ("splittalk.split", "judge", "(table, found)"),
 ]
 CLASSES = [
     ("splittalk.ratio", "Ratio", "(num, den=1)",
      ("__add__", "__sub__", "__mul__", "__eq__", "__str__", "less")),
     ("splittalk.table", "Table", "(rows)", ("__eq__",)),
+    ("splittalk.talk", "End", "()", ("__eq__",)),
+    ("splittalk.talk", "Say", "(person, lots, parts)", ("__eq__",)),
+    ("splittalk.split", "Found", "(kind, talk, part)", ("__eq__",)),
 ]
 ERRORS = ("TalkError", "BadText", "BadPaper", "BadTable", "BadTalk", "TooLarge", "BadRatio")
 
