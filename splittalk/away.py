@@ -4,9 +4,7 @@ The chance of an end is the product of two weights, one for the row and one for 
 are reckoned for each value alone, as chances of long ways are fractions of very many digits.
 """
 
-from math import lcm
-
-from splittalk.ratio import Ratio
+from splittalk.ratio import Ratio, over_one
 from splittalk.table import whole
 from splittalk.talk import chances, weights
 
@@ -28,7 +26,7 @@ def gaps(table, talk):
     for person, lines, own, others in _sides(table, talk):
         surplus = _surplus(others)
         for value, beside in enumerate(lines):
-            mine = _over_one(own[value])
+            mine = over_one(own[value])
             for one, other in _alike(beside):
                 gap = _summed(mine, surplus[one, other])
                 if gap.num > 0:
@@ -65,7 +63,7 @@ def _alike(beside):
 def _surplus(others):
     """For each pair of values, how much greater the weights of the first one are."""
     return {
-        (one, other): _over_one([_more(a, b) for a, b in zip(others[one], others[other])])
+        (one, other): over_one([_more(a, b) for a, b in zip(others[one], others[other])])
         for one, other in _pairs(len(others))
     }
 
@@ -75,16 +73,8 @@ def _more(one, other):
     return one - other if other.less(one) else Ratio(0)
 
 
-def _over_one(ratios):
-    """The numerators of fractions over one denominator for all, and this denominator."""
-    den = 1
-    for ratio in ratios:
-        den = lcm(den, ratio.den)
-    return [ratio.num * (den // ratio.den) for ratio in ratios], den
-
-
 def _summed(mine, surplus):
-    """The sum of the products of two lists of fractions, each of them as _over_one tells it."""
+    """The sum of the products of two lists of fractions, each of them as over_one tells it."""
     ones, den = mine
     others, base = surplus
     return Ratio(sum([one * other for one, other in zip(ones, others)]), den * base)

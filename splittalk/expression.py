@@ -71,8 +71,11 @@ def _reckoned(operator, one, other):
         return 1 if one < other else 0
     if operator == "=":
         return 1 if one == other else 0
-    if other == 0:
-        return 0
     if operator == "/":
-        return one // other
-    return one % other
+        return 0 if other == 0 else one // other
+    return remainder(one, other)
+
+
+def remainder(one, other):
+    """What is left of one number modulo another one, which may be 0."""
+    return 0 if other == 0 else one % other

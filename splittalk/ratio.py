@@ -1,6 +1,6 @@
 """Exact fractions."""
 
-from math import gcd
+from math import gcd, lcm
 
 from splittalk.errors import BadRatio
 
@@ -51,3 +51,11 @@ class Ratio:
     def less(self, other):
         """Whether this fraction is less than the other one."""
         return self.num * other.den < other.num * self.den
+
+
+def over_one(ratios):
+    """The numerators of fractions over one denominator for all, and this denominator."""
+    den = 1
+    for ratio in ratios:
+        den = lcm(den, ratio.den)
+    return [ratio.num * (den // ratio.den) for ratio in ratios], den

@@ -4,7 +4,7 @@ Talks are walked by loops: ways may have more messages than recursion should hav
 """
 
 from splittalk.errors import BadTalk
-from splittalk.ratio import Ratio
+from splittalk.ratio import Ratio, over_one
 
 
 class End:
@@ -35,16 +35,17 @@ def _fault(person, lots, parts):
         return "person"
     if len(parts) == 0:
         return "parts"
-    if len(lots) == 0 or any([_wrong_lots(row, len(parts)) for row in lots]):
+    if len(lots) == 0 or any([not are_lots(row, len(parts)) for row in lots]):
         return "lots"
     return None
 
 
-def _wrong_lots(row, many):
-    """Whether the lots of one value are not those of so many possible messages."""
+def are_lots(row, many):
+    """Whether fractions may be the lots of one value for so many possible messages."""
     if len(row) != many or any([lot.num < 0 for lot in row]):
-        return True
-    return sum(row, start=Ratio(0)) != Ratio(1)
+        return False
+    nums, den = over_one(row)
+    return sum(nums) == den
 
 
 def _same(one, other):
@@ -73,15 +74,43 @@ def _below(nodes):
     return [part for node in nodes if isinstance(node, Say) for part in node.parts]
 
 
+def nodes_of(talk):
+    """The nodes of a talk, each ahead of its parts and earlier parts first."""
+    nodes = []
+    left = [talk]
+    while left:
+        node = left.pop()
+        nodes.append(node)
+        if isinstance(node, Say):
+            # The last one is taken first, so that the earliest part has to stand last.
+            left.extend(node.parts[::-1])
+    return nodes
+
+
+def talk_from(plan):
+    """The talk of a plan: what its nodes are, in the order of nodes_of.
+
+    A plan has None for an end, and for a message its person, its lots and the number of its parts.
+    """
+    made = []
+    for step in reversed(plan):
+        if step is None:
+            made.append(End())
+        else:
+            person, lots, many = step
+            # What follows is made when the turn of its node comes, the first part last of all.
+            first = len(made) - many
+            parts = made[first:]
+            del made[first:]
+            made.append(Say(person, lots, parts[::-1]))
+    return made[0]
+
+
 def fits(table, talk):
     """Whether each message has a list of lots for each value that its person has in the table."""
     values = {1: len(table.rows), 2: len(table.rows[0])}
-    nodes = [talk]
-    while nodes:
-        if any([len(node.lots) != values[node.person] for node in nodes if isinstance(node, Say)]):
-            return False
-        nodes = _below(nodes)
-    return True
+    messages = [node for node in nodes_of(talk) if isinstance(node, Say)]
+    return all([len(message.lots) == values[message.person] for message in messages])
 
 
 def longest(talk):

@@ -6,6 +6,9 @@ _NO_NAMES = (
     "rows", "columns", "var", "set", "first", "second",
     "if", "else", "end", "own", "lot", "mod",
 )
+# The words with which person 1 and person 2 say something.
+PERSONS = ("first", "second")
+
 _LETTERS = "abcdefghijklmnopqrstuvwxyz"
 _DIGITS = "0123456789"
 
@@ -28,9 +31,14 @@ def is_number(word):
     """Whether a word writes a number in the one way in which it is written."""
     if not 1 <= len(word) <= 5:
         return False
-    # Python's int takes more than digits, such as signs and newlines.
-    if not all([digit in _DIGITS for digit in word]):
+    if not are_digits(word):
         return False
     if word.startswith("0"):
         return word == "0"
     return int(word) <= LARGEST
+
+
+def are_digits(word):
+    """Whether a word has no signs but digits."""
+    # Python's int takes more, such as a minus and newlines.
+    return all([digit in _DIGITS for digit in word])

@@ -1,7 +1,9 @@
-"""What several tests share: short ways to write lots and talks, tables by chance, and groups."""
+"""What several tests share: short ways to write lots and talks, and things by chance."""
 
 import random
 
+from splittalk.errors import BadText
+from splittalk.program import read_program
 from splittalk.ratio import Ratio
 from splittalk.table import Table
 from splittalk.talk import End, Say
@@ -102,3 +104,52 @@ def rows_by_ties(table, part):
 
 def columns_by_ties(table, part):
     return groups_by_ties({column: [table.rows[k][column] for k in part[0]] for column in part[1]})
+
+
+def number(value):
+    return ("number", value)
+
+
+def at_of(text):
+    """The at of the BadText that reading a program raises, or None."""
+    try:
+        read_program(text)
+    except BadText as error:
+        return error.at
+    return None
+
+
+def some_value(chance, names, deepest=5):
+    """The words of an expression by chance."""
+    if deepest == 1 or chance.random() < 0.5:
+        return [chance.choice([*names, "0", "1", "2", "3", "65535", "7"])]
+    word = chance.choice(("+", "-", "*", "/", "mod", "<", "="))
+    return [word, *some_value(chance, names, deepest - 1), *some_value(chance, names, deepest - 1)]
+
+
+def some_block(chance, names, said, depth=0):
+    """The words of statements by chance; said is a list of the messages so far."""
+    words = []
+    for _ in range(chance.randint(0, 3 if depth else 8)):
+        kind = chance.choice(("set", "say", "say", "if"))
+        if kind == "if" and depth < 4:
+            words += ["if", *some_value(chance, names), *some_block(chance, names, said, depth + 1)]
+            other = some_block(chance, names, said, depth + 1)
+            words += ["else", *other, "end"] if other else ["end"]
+        elif kind == "set" and names:
+            words += ["set", chance.choice(names), *some_value(chance, names)]
+        elif kind == "say" and names and len(said) < 6:
+            said.append(kind)
+            words += [chance.choice(("first", "second")), chance.choice(names)]
+            words += [str(chance.randint(1, 4)), str(chance.randint(1, 8))]
+            words += some_value(chance, [*names, "own", "own", "lot"])
+    return words
+
+
+def some_program_words(chance, most=8):
+    """The words of a program by chance."""
+    words = ["rows", str(chance.randint(1, most)), "columns", str(chance.randint(1, most))]
+    names = chance.sample(["x", "y", "z", "abcdefgh", "q"], chance.choice((0, 1, 2, 2, 3, 4)))
+    for name in names:
+        words += ["var", name, str(chance.choice((1, 2, 3, 4, 5, 65535)))]
+    return words + some_block(chance, names, [])

@@ -25,6 +25,14 @@ FUNCTIONS = [
     ("splittalk.away", "gaps", "(table, talk)"),
     ("splittalk.split", "settle", "(table)"),
     ("splittalk.split", "judge", "(table, found)"),
+    ("splittalk.program", "read_program", "(text)"),
+    ("splittalk.program", "program_text", "(program)"),
+    ("splittalk.run", "talk_of", "(program)"),
+    ("splittalk.coarse", "merged", "(table, grouping)"),
+    ("splittalk.coarse", "least_groupings", "(table)"),
+    ("splittalk.coarse", "beside", "(one, other)"),
+    ("splittalk.paper", "paper_lines", "(found)"),
+    ("splittalk.paper", "read_paper", "(table, lines)"),
 ]
 CLASSES = [
     ("splittalk.ratio", "Ratio", "(num, den=1)",
@@ -33,6 +41,7 @@ CLASSES = [
     ("splittalk.talk", "End", "()", ("__eq__",)),
     ("splittalk.talk", "Say", "(person, lots, parts)", ("__eq__",)),
     ("splittalk.split", "Found", "(kind, talk, part)", ("__eq__",)),
+    ("splittalk.program", "Program", "(rows, columns, variables, block)", ("__eq__",)),
 ]
 ERRORS = ("TalkError", "BadText", "BadPaper", "BadTable", "BadTalk", "TooLarge", "BadRatio")
 
